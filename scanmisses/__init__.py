@@ -1,0 +1,1 @@
+"""Scanmisses: what caches of every size miss of loops of scans."""

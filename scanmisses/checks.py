@@ -1,0 +1,73 @@
+"""Checks of arguments: each one raises the error that the document names, or returns None."""
+
+from scanmisses.errors import InvalidAddress, InvalidIndex, InvalidInterval, InvalidList, InvalidNumber, InvalidScan
+
+GREATEST = 10 ** 30
+
+
+def is_integer(value):
+    """Whether a value is an integer; True and False are none."""
+    return isinstance(value, int) and not isinstance(value, bool)
+
+
+def is_from_zero(value):
+    """Whether a value is an integer from 0 on."""
+    return is_integer(value) and value >= 0
+
+
+def is_scan(value):
+    """Whether a value is a scan."""
+    return isinstance(value, tuple) and len(value) == 2 and is_from_zero(value[0]) and is_from_zero(value[1])
+
+
+def is_list(value):
+    """Whether a value is a list of scans in which no address occurs twice."""
+    if not isinstance(value, list):
+        return False
+    for scan in value:
+        if not is_scan(scan):
+            return False
+    spans = sorted([(min(first, last), max(first, last)) for first, last in value])
+    return all([one[1] < two[0] for one, two in zip(spans, spans[1:])])
+
+
+def check_list(scans):
+    if not is_list(scans):
+        raise InvalidList("not a list of scans in which no address occurs twice")
+
+
+def check_scan(scan):
+    if not is_scan(scan):
+        raise InvalidScan("not a tuple of two integers from 0 on")
+
+
+def check_address(address):
+    if not is_from_zero(address):
+        raise InvalidAddress("not an integer from 0 on")
+
+
+def check_index(index, count):
+    """Checks an index of one of so many things."""
+    if not is_from_zero(index) or index >= count:
+        raise InvalidIndex("not an integer from 0 on and less than the number of things")
+
+
+def check_many(many):
+    if not is_from_zero(many):
+        raise InvalidNumber("not an integer from 0 on")
+
+
+def check_integer(number):
+    if not is_integer(number):
+        raise InvalidNumber("not an integer")
+
+
+def check_between(number, least, greatest):
+    """Checks a number that is an integer from least to greatest."""
+    if not is_integer(number) or not least <= number <= greatest:
+        raise InvalidNumber("not an integer within its bounds")
+
+
+def check_interval(low, high):
+    if not is_from_zero(low) or not is_from_zero(high) or low > high:
+        raise InvalidInterval("not two integers with 0 <= low <= high")

@@ -1,0 +1,74 @@
+"""Lists of scans in which no address occurs twice; all returned lists are tidy."""
+
+from scanmisses.checks import check_address, check_index, check_interval, check_list, check_many, check_scan
+from scanmisses.scans import address_in, all_without, joined, place_in, scan_head, scan_length
+
+
+def tidy(scans):
+    """The list of the fewest scans with the same addresses in the same order."""
+    check_list(scans)
+    return joined(scans)
+
+
+def count_addresses(scans):
+    """The number of the addresses."""
+    check_list(scans)
+    return sum([scan_length(scan) for scan in scans])
+
+
+def turned(scans):
+    """The addresses in the opposite order."""
+    check_list(scans)
+    return joined([(last, first) for first, last in reversed(scans)])
+
+
+def place_of(scans, address):
+    """The place of an address, or None if it does not occur."""
+    check_list(scans)
+    check_address(address)
+    ahead = 0
+    for scan in scans:
+        place = place_in(scan, address)
+        if place is not None:
+            return ahead + place
+        ahead = ahead + scan_length(scan)
+    return None
+
+
+def nth_address(scans, index):
+    """The address at a place."""
+    check_index(index, count_addresses(scans))
+    left = index
+    at = 0
+    while left >= scan_length(scans[at]):
+        left = left - scan_length(scans[at])
+        at = at + 1
+    return address_in(scans[at], left)
+
+
+def first_part(scans, many):
+    """The first addresses, so many, or all of them if there are fewer."""
+    check_list(scans)
+    check_many(many)
+    taken = []
+    left = many
+    for scan in scans:
+        if left > 0:
+            taken.append(scan_head(scan, left))
+        left = left - scan_length(scan)
+    return joined(taken)
+
+
+def on_top(scans, scan):
+    """The addresses of a scan, then all others of the list."""
+    check_list(scans)
+    check_scan(scan)
+    others = all_without(scans, min(scan[0], scan[1]), max(scan[0], scan[1]))
+    return joined([scan, *others])
+
+
+def without(scans, low, high):
+    """The addresses that are not from low to high."""
+    check_list(scans)
+    check_interval(low, high)
+    return joined(all_without(scans, low, high))

@@ -1,0 +1,53 @@
+"""Single scans, and sequences of scans whose addresses are all different; nothing is checked here."""
+
+
+def scan_length(scan):
+    """The number of addresses that a scan reads."""
+    return abs(scan[1] - scan[0]) + 1
+
+
+def address_in(scan, place):
+    """The address at a place of a scan."""
+    first, last = scan
+    return first + place if first <= last else first - place
+
+
+def place_in(scan, address):
+    """The place of an address in a scan, or None if the scan does not read it."""
+    first, last = scan
+    if min(first, last) <= address <= max(first, last):
+        return abs(address - first)
+    return None
+
+
+def scan_head(scan, many):
+    """The scan of the first addresses of a scan, so many, from 1 on, or all of them if there are fewer."""
+    return (scan[0], address_in(scan, min(many, scan_length(scan)) - 1))
+
+
+def scan_without(scan, low, high):
+    """The scans, at most two, of the addresses of a scan that are not from low to high."""
+    first, last = scan
+    least, greatest = min(first, last), max(first, last)
+    ends = [(least, min(greatest, low - 1)), (max(least, high + 1), greatest)]
+    left = [(start, stop) for start, stop in ends if start <= stop]
+    if first <= last:
+        return left
+    return [(stop, start) for start, stop in reversed(left)]
+
+
+def all_without(scans, low, high):
+    """The scans of the addresses of scans that are not from low to high."""
+    return [part for scan in scans for part in scan_without(scan, low, high)]
+
+
+def joined(scans):
+    """The tidy list of the addresses of scans."""
+    rows = []
+    for first, last in scans:
+        # As no address occurs twice, a neighbour goes on in the same direction.
+        if rows and abs(first - rows[-1][1]) == 1:
+            rows[-1] = (rows[-1][0], last)
+        else:
+            rows.append((first, last))
+    return rows
