@@ -1,6 +1,7 @@
 """Checks of arguments: each one raises the error that the document names, or returns None."""
 
-from scanmisses.errors import InvalidAddress, InvalidIndex, InvalidInterval, InvalidList, InvalidNumber, InvalidScan
+from scanmisses.errors import InvalidAddress, InvalidIndex, InvalidInterval, InvalidList, InvalidNumber
+from scanmisses.errors import InvalidProfile, InvalidScan, InvalidSize
 
 GREATEST = 10 ** 30
 
@@ -31,6 +32,21 @@ def is_list(value):
     return all([one[1] < two[0] for one, two in zip(spans, spans[1:])])
 
 
+def is_piece(value):
+    """Whether a value is a piece of a profile, (low, high, times)."""
+    if not isinstance(value, tuple) or len(value) != 3 or not all([is_integer(number) for number in value]):
+        return False
+    low, high, times = value
+    return 1 <= low <= high and times >= 1
+
+
+def are_pieces(value):
+    """Whether a value is a list of pieces of a profile, each one beyond the one before it."""
+    if not isinstance(value, list) or not all([is_piece(piece) for piece in value]):
+        return False
+    return all([one[1] < two[0] for one, two in zip(value, value[1:])])
+
+
 def check_list(scans):
     if not is_list(scans):
         raise InvalidList("not a list of scans in which no address occurs twice")
@@ -52,9 +68,15 @@ def check_index(index, count):
         raise InvalidIndex("not an integer from 0 on and less than the number of things")
 
 
-def check_many(many):
-    if not is_from_zero(many):
-        raise InvalidNumber("not an integer from 0 on")
+def check_size(size):
+    if not is_from_zero(size):
+        raise InvalidSize("not an integer from 0 on")
+
+
+def check_from(number, least):
+    """Checks a number that is an integer from least on."""
+    if not is_integer(number) or number < least:
+        raise InvalidNumber("not an integer from the least one on")
 
 
 def check_integer(number):
@@ -71,3 +93,11 @@ def check_between(number, least, greatest):
 def check_interval(low, high):
     if not is_from_zero(low) or not is_from_zero(high) or low > high:
         raise InvalidInterval("not two integers with 0 <= low <= high")
+
+
+def check_distances(cold, pieces):
+    """Checks what a profile is made of."""
+    if not is_from_zero(cold):
+        raise InvalidProfile("the number of cold accesses is not an integer from 0 on")
+    if not are_pieces(pieces):
+        raise InvalidProfile("not a list of ascending tuples (low, high, times)")

@@ -1,7 +1,7 @@
 """Lists of scans in which no address occurs twice; all returned lists are tidy."""
 
-from scanmisses.checks import check_address, check_index, check_interval, check_list, check_many, check_scan
-from scanmisses.scans import address_in, all_without, joined, place_in, scan_head, scan_length
+from scanmisses.checks import check_address, check_from, check_index, check_interval, check_list, check_scan
+from scanmisses.scans import address_in, all_without, count_all, joined, place_in, put_ahead, scan_head, scan_length
 
 
 def tidy(scans):
@@ -13,7 +13,7 @@ def tidy(scans):
 def count_addresses(scans):
     """The number of the addresses."""
     check_list(scans)
-    return sum([scan_length(scan) for scan in scans])
+    return count_all(scans)
 
 
 def turned(scans):
@@ -49,7 +49,7 @@ def nth_address(scans, index):
 def first_part(scans, many):
     """The first addresses, so many, or all of them if there are fewer."""
     check_list(scans)
-    check_many(many)
+    check_from(many, 0)
     taken = []
     left = many
     for scan in scans:
@@ -63,8 +63,7 @@ def on_top(scans, scan):
     """The addresses of a scan, then all others of the list."""
     check_list(scans)
     check_scan(scan)
-    others = all_without(scans, min(scan[0], scan[1]), max(scan[0], scan[1]))
-    return joined([scan, *others])
+    return put_ahead([scan], scans)
 
 
 def without(scans, low, high):

@@ -4,7 +4,7 @@ The parts of a program are a tuple. A part is a scan, (first, last), or a repeat
 a tuple of parts.
 """
 
-from scanmisses.scans import scan_length
+from scanmisses.scans import put_ahead, scan_length
 
 
 def is_repeat(part):
@@ -32,6 +32,16 @@ def count_accesses(parts):
         else:
             many = many + scan_length(part)
     return many
+
+
+def lasts_of(parts):
+    """The tidy list of the addresses in the order of their last accesses, the latest one first."""
+    lasts = []
+    for part in parts:
+        # The last round of a repeat reads all of its addresses again.
+        latest = lasts_of(part[1]) if is_repeat(part) else [(part[1], part[0])]
+        lasts = put_ahead(latest, lasts)
+    return lasts
 
 
 def repeated(parts, times):

@@ -29,6 +29,9 @@ def scan_without(scan, low, high):
     """The scans, at most two, of the addresses of a scan that are not from low to high."""
     first, last = scan
     least, greatest = min(first, last), max(first, last)
+    # Most scans are not touched, so they are told apart first.
+    if greatest < low or high < least:
+        return [scan]
     ends = [(least, min(greatest, low - 1)), (max(least, high + 1), greatest)]
     left = [(start, stop) for start, stop in ends if start <= stop]
     if first <= last:
@@ -39,6 +42,24 @@ def scan_without(scan, low, high):
 def all_without(scans, low, high):
     """The scans of the addresses of scans that are not from low to high."""
     return [part for scan in scans for part in scan_without(scan, low, high)]
+
+
+def others_of(scans, taken):
+    """The scans of the addresses of scans that are not among the taken ones."""
+    left = scans
+    for first, last in taken:
+        left = all_without(left, min(first, last), max(first, last))
+    return left
+
+
+def count_all(scans):
+    """The number of the addresses."""
+    return sum([scan_length(scan) for scan in scans])
+
+
+def put_ahead(scans, others):
+    """The tidy list of the addresses of scans, then those of others that are not among them."""
+    return joined(scans + others_of(others, scans))
 
 
 def joined(scans):

@@ -2,36 +2,16 @@ import copy
 import itertools
 import unittest
 
-from plain import ODD, addresses_of, tidy_of
+from plain import FAR, NO_LISTS, NO_NUMBERS, ODD, addresses_of, small_lists, tidy_of
 from scanmisses.errors import (
     InvalidAddress, InvalidIndex, InvalidInterval, InvalidList, InvalidNumber, InvalidScan)
 from scanmisses.lists import (
     count_addresses, first_part, nth_address, on_top, place_of, tidy, turned, without)
 
-FAR = 10 ** 99
-NO_NUMBERS = [None, True, False, "", "0", -1, -FAR, (0,), [0], {}, b"1"]
 CALLS = [
     (tidy, ()), (count_addresses, ()), (turned, ()), (place_of, (0,)), (nth_address, (0,)), (first_part, (2,)),
     (on_top, ((0, 5),)), (without, (0, 5)),
 ]
-NO_LISTS = [value for value in ODD if value != []] + [
-    [(0, 5), (5, 9)], [(0, 0), (0, 0)], [(9, 0), (3, 3)], [(3, 3), (0, 9)], [(0, 9), (20, 30), (9, 9)],
-    [(0, FAR), (FAR, 2 * FAR)], [(FAR, 0), (2 * FAR, FAR)], [(0, 5), [6, 7]], [(0, 5), (6, 7), None],
-    [(5, 9), (0, 4), (4, 4)],
-]
-
-
-def small_lists():
-    """Lists of up to five addresses: the tidy ones, those of single addresses, and some between."""
-    for many in range(6):
-        for chosen in itertools.permutations(range(5), many):
-            whole = tidy_of(chosen)
-            yield whole
-            single = [(address, address) for address in chosen]
-            if single != whole:
-                yield single
-                for cut in range(1, many):
-                    yield tidy_of(chosen[:cut]) + tidy_of(chosen[cut:])
 
 
 class ExamplesTest(unittest.TestCase):
