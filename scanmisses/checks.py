@@ -1,9 +1,11 @@
 """Checks of arguments: each one raises the error that the document names, or returns None."""
 
 from scanmisses.errors import InvalidAddress, InvalidIndex, InvalidInterval, InvalidList, InvalidNumber
-from scanmisses.errors import InvalidProfile, InvalidScan, InvalidSize
+from scanmisses.errors import InvalidProfile, InvalidScan, InvalidScans, InvalidSize, InvalidSizes
 
 GREATEST = 10 ** 30
+MOST_SIZES = 3
+MOST_BODIES = 6
 
 
 def is_integer(value):
@@ -71,6 +73,22 @@ def check_index(index, count):
 def check_size(size):
     if not is_from_zero(size):
         raise InvalidSize("not an integer from 0 on")
+
+
+def check_sizes(sizes):
+    """Checks the sizes of caches behind one another."""
+    if not isinstance(sizes, list) or not 1 <= len(sizes) <= MOST_SIZES:
+        raise InvalidSizes("not a list of so many sizes")
+    if not all([is_from_zero(size) for size in sizes]):
+        raise InvalidSizes("not a list of integers from 0 on")
+
+
+def check_bodies(bodies):
+    """Checks the scans of the body of a loop."""
+    if not isinstance(bodies, list) or not 1 <= len(bodies) <= MOST_BODIES:
+        raise InvalidScans("not a list of so many scans")
+    if not all([is_scan(scan) for scan in bodies]):
+        raise InvalidScans("not a list of tuples of two integers from 0 on")
 
 
 def check_from(number, least):

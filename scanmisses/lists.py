@@ -1,7 +1,7 @@
 """Lists of scans in which no address occurs twice; all returned lists are tidy."""
 
 from scanmisses.checks import check_address, check_from, check_index, check_interval, check_list, check_scan
-from scanmisses.scans import address_in, all_without, count_all, joined, place_in, put_ahead, scan_head, scan_length
+from scanmisses.scans import address_in, all_without, count_all, first_of, joined, place_in, put_ahead, scan_length
 
 
 def tidy(scans):
@@ -50,13 +50,7 @@ def first_part(scans, many):
     """The first addresses, so many, or all of them if there are fewer."""
     check_list(scans)
     check_from(many, 0)
-    taken = []
-    left = many
-    for scan in scans:
-        if left > 0:
-            taken.append(scan_head(scan, left))
-        left = left - scan_length(scan)
-    return joined(taken)
+    return joined(first_of(scans, many))
 
 
 def on_top(scans, scan):

@@ -52,6 +52,17 @@ def others_of(scans, taken):
     return left
 
 
+def first_of(scans, many):
+    """The scans of the first addresses, so many, or all of them if there are fewer."""
+    taken = []
+    left = many
+    for scan in scans:
+        if left > 0:
+            taken.append(scan_head(scan, left))
+        left = left - scan_length(scan)
+    return taken
+
+
 def count_all(scans):
     """The number of the addresses."""
     return sum([scan_length(scan) for scan in scans])

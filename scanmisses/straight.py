@@ -33,17 +33,28 @@ def shared_intervals(lasts, firsts):
     return found
 
 
-def straight_pieces(lasts, firsts):
-    """The pieces, which may overlap, of the distances of the addresses of both lists."""
+def straight_rows(lasts, firsts):
+    """The intervals that scans have in common, each a tuple (place in firsts, length, distance, growing).
+
+    The distance is that of its first address in the firsts. Those of the others grow by 1 each, or are equal to it.
+    """
     shared = shared_intervals(lasts, firsts)
-    pieces = []
+    rows = []
     for in_lasts, in_firsts, length, one_direction in shared:
         # Another interval is as a whole ahead of this one or behind it.
         in_both = sum([row[2] for row in shared if row[0] < in_lasts and row[1] < in_firsts])
         distance = 1 + in_lasts + in_firsts - in_both
-        if one_direction:
+        # What is ahead in the one scan may be behind in the other: then all of the interval count for each one.
+        rows.append((in_firsts, length, distance if one_direction else distance + length - 1, one_direction))
+    return rows
+
+
+def straight_pieces(lasts, firsts):
+    """The pieces, which may overlap, of the distances of the addresses of both lists."""
+    pieces = []
+    for _, length, distance, growing in straight_rows(lasts, firsts):
+        if growing:
             pieces.append((distance, distance + length - 1, 1))
         else:
-            # What is ahead in the one scan is behind in the other: all others of the interval count for each one.
-            pieces.append((distance + length - 1, distance + length - 1, length))
+            pieces.append((distance, distance, length))
     return pieces

@@ -21,6 +21,13 @@ NO_LISTS = [value for value in ODD if value != []] + [
 # No integer from 0 on.
 NO_NUMBERS = [None, True, False, "", "0", b"1", -1, -FAR, (), (0,), [], [0], {}, {0: 1}, object, len]
 
+# Texts with a repeat at each of their levels, up to five.
+LEVELS = [
+    "( 0-3 )N", "( 0-3 3-0 )N 7", "8 ( 0-2 1 )N", "( ( 0-2 )N 1 3-1 )N", "0 ( 1 ( 2-4 0 )N 3-1 )N 2 4",
+    "( 5 ( ( 0-1 )N 2 )N 1-3 )N", "( ( ( ( ( 0 1 )N 2 )N 1 )N 3 )N 0 2 )N 9",
+    "( 0 ( 1 ( 2 ( 0 ( 1 3 )N )N 0 )N )N 2 )N",
+]
+
 
 def addresses_of(scans, width=1):
     """The addresses that scans read, one by one, so many as width for each of them."""
@@ -43,20 +50,30 @@ def tidy_of(addresses):
     return scans
 
 
-def expanded(text, width=1):
-    """The accesses of a program, one by one, from its text, so many as width for each of them."""
+def folded(text, scan, repeat):
+    """The list that the words of a text make together.
+
+    scan gives a list for the word of a scan, repeat one for the list of a body and the word behind it.
+    """
     bodies = [[]]
     for word in text.split(" ") if text else []:
         if word == "(":
             bodies.append([])
         elif word[0] == ")":
             body = bodies.pop()
-            bodies[-1].extend(body * int(word[1:]))
+            bodies[-1].extend(repeat(body, word))
         else:
-            ends = [int(number) for number in word.split("-")]
-            bodies[-1].extend(addresses_of([(ends[0], ends[-1])], width))
+            bodies[-1].extend(scan(word))
     assert len(bodies) == 1
     return bodies[0]
+
+
+def expanded(text, width=1):
+    """The accesses of a program, one by one, from its text, so many as width for each of them."""
+    def scan(word):
+        ends = [int(number) for number in word.split("-")]
+        return addresses_of([(ends[0], ends[-1])], width)
+    return folded(text, scan, lambda body, word: body * int(word[1:]))
 
 
 def small_lists(top=5):
@@ -109,17 +126,22 @@ def pieces_of(distances):
     return pieces
 
 
-def misses_in(accesses, size):
-    """How many accesses miss a cache of a size that is played."""
-    kept, misses = [], 0
-    for address in accesses:
+def missed_in(accesses, size):
+    """The indices of the accesses that miss a cache of a size that is played."""
+    kept, found = [], []
+    for index, address in enumerate(accesses):
         if address in kept:
             kept.remove(address)
         else:
-            misses += 1
+            found.append(index)
         kept.insert(0, address)
         del kept[size:]
-    return misses
+    return found
+
+
+def misses_in(accesses, size):
+    """How many accesses miss a cache of a size that is played."""
+    return len(missed_in(accesses, size))
 
 
 def depth_of(text):
@@ -151,3 +173,44 @@ def random_texts(seed, many, top=6, longest=120):
         if len(expanded(text)) <= longest:
             found.append(text)
     return found
+
+
+def same_places(text, few, many):
+    """Pairs of indices of like accesses, of a text with few and with many rounds at each level.
+
+    The first two rounds and the last one are like the first two and the last one, the others like any one
+    between, for which one in the middle is taken.
+    """
+    def pairs(words):
+        found, at = [], [0, 0]
+        while words:
+            word = words.pop(0)
+            if word == "(":
+                inside, lengths = pairs(words)
+                places = [(0, 0), (1, 1), (few // 2, many // 2), (few - 1, many - 1)]
+                for one, two in places:
+                    found.extend((at[0] + one * lengths[0] + a, at[1] + two * lengths[1] + b) for a, b in inside)
+                at = [at[0] + few * lengths[0], at[1] + many * lengths[1]]
+            elif word == ")N":
+                break
+            else:
+                length = len(expanded(word))
+                found.extend((at[0] + k, at[1] + k) for k in range(length))
+                at = [at[0] + length, at[1] + length]
+        return found, at
+    return pairs(text.split(" "))[0]
+
+
+def straight_on(numbers, levels, few, great):
+    """A list of numbers for great times at each level, if each of them goes straight on from few times.
+
+    numbers gives the list for a tuple of times.
+    """
+    total = None
+    for chosen in itertools.product((few, few + 1), repeat=levels):
+        weight = 1
+        for times, many in zip(chosen, great):
+            weight *= many - few if times > few else few + 1 - many
+        row = [weight * number for number in numbers(chosen)]
+        total = row if total is None else [one + two for one, two in zip(total, row)]
+    return total

@@ -1,7 +1,8 @@
 import itertools
 import unittest
 
-from plain import BIG, FAR, NO_NUMBERS, ODD, depth_of, distances_in, expanded, last_in, random_texts
+from plain import (
+    BIG, FAR, LEVELS, NO_NUMBERS, ODD, depth_of, distances_in, expanded, last_in, random_texts, same_places)
 from scanmisses.errors import (
     InvalidAddress, InvalidIndex, InvalidNumber, InvalidProgram, ScanError, TooLarge)
 from scanmisses.programs import Program
@@ -14,39 +15,6 @@ TEXTS = [
     "5 ( 6 ( 7-9 ( 8-6 )2 4 )3 )2 1", "( 0 )2 ( 0 )2", "4-6 6-4 5 5", "( ( ( ( ( 0-2 )2 1 )2 )2 3-1 )2 0 )2",
 ]
 FLAT = ["", "0", "0-3", "3-0", "2-9 4", "0-9 5-14", "4-6 6-4 5 5", "0 0 0", "1-2 2-1 0-5 7 6-3"]
-
-# Texts with a repeat at each of their levels, up to five.
-LEVELS = [
-    "( 0-3 )N", "( 0-3 3-0 )N 7", "8 ( 0-2 1 )N", "( ( 0-2 )N 1 3-1 )N", "0 ( 1 ( 2-4 0 )N 3-1 )N 2 4",
-    "( 5 ( ( 0-1 )N 2 )N 1-3 )N", "( ( ( ( ( 0 1 )N 2 )N 1 )N 3 )N 0 2 )N 9",
-    "( 0 ( 1 ( 2 ( 0 ( 1 3 )N )N 0 )N )N 2 )N",
-]
-
-
-def same_places(text, few, many):
-    """Pairs of indices of like accesses, of a text with few and with many rounds at each level.
-
-    The first two rounds and the last one are like the first two and the last one, the others like any one
-    between, for which one in the middle is taken.
-    """
-    def pairs(words):
-        found, at = [], [0, 0]
-        while words:
-            word = words.pop(0)
-            if word == "(":
-                inside, lengths = pairs(words)
-                places = [(0, 0), (1, 1), (few // 2, many // 2), (few - 1, many - 1)]
-                for one, two in places:
-                    found.extend((at[0] + one * lengths[0] + a, at[1] + two * lengths[1] + b) for a, b in inside)
-                at = [at[0] + few * lengths[0], at[1] + many * lengths[1]]
-            elif word == ")N":
-                break
-            else:
-                length = len(expanded(word))
-                found.extend((at[0] + k, at[1] + k) for k in range(length))
-                at = [at[0] + length, at[1] + length]
-        return found, at
-    return pairs(text.split(" "))[0]
 
 
 class ExamplesTest(unittest.TestCase):
