@@ -3,7 +3,7 @@ import random
 import unittest
 
 from plain import (
-    BIG, FAR, NO_NUMBERS, ODD, distances_in, expanded, misses_in, missed_in, pieces_of, random_texts, straight_on)
+    BIG, FAR, NO_NUMBERS, ODD, distances_in, expanded, missed_in, pieces_of, random_texts, straight_on)
 from scanmisses.errors import InvalidProgram, InvalidSizes, ScanError
 from scanmisses.levels import level_misses, level_profile, stacked_hits
 from scanmisses.misses import missed
