@@ -4,14 +4,23 @@ What it keeps is a tidy list, the latest address first.
 """
 
 from scanmisses.parts import count_accesses, is_repeat, lasts_of, repeated
-from scanmisses.scans import address_in, first_of, place_in, put_ahead, scan_length
-from scanmisses.straight import straight_rows
+from scanmisses.pieces import count_beyond
+from scanmisses.scans import address_in, count_all, first_of, place_in, put_ahead, scan_length
+from scanmisses.straight import straight_pieces, straight_rows
 from scanmisses.walks import access_at
 
 
 def kept_behind(kept, parts, size):
     """What is kept behind parts, by a cache that kept something ahead of them."""
     return first_of(put_ahead(lasts_of(parts), kept), size)
+
+
+def misses_behind(kept, three, size):
+    """How many accesses of a program, told by its three things, miss a cache that kept something ahead of it."""
+    firsts, _, pieces = three
+    again = straight_pieces(kept, firsts)
+    not_kept = count_all(firsts) - count_beyond(again, 0)
+    return not_kept + count_beyond(again, size) + count_beyond(pieces, size)
 
 
 def missed_of(parts, kept, size):

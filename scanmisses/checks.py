@@ -1,11 +1,14 @@
 """Checks of arguments: each one raises the error that the document names, or returns None."""
 
 from scanmisses.errors import InvalidAddress, InvalidIndex, InvalidInterval, InvalidList, InvalidNumber
-from scanmisses.errors import InvalidProfile, InvalidScan, InvalidScans, InvalidSize, InvalidSizes
+from scanmisses.errors import InvalidOperation, InvalidPoints, InvalidProfile, InvalidScan, InvalidScans
+from scanmisses.errors import InvalidSize, InvalidSizes
 
 GREATEST = 10 ** 30
 MOST_SIZES = 3
 MOST_BODIES = 6
+MOST_POINTS = 8
+OPERATIONS = {"play": 2, "resize": 2, "drop": 3}
 
 
 def is_integer(value):
@@ -49,6 +52,19 @@ def are_pieces(value):
     return all([one[1] < two[0] for one, two in zip(value, value[1:])])
 
 
+def is_point(distance, times):
+    """Whether a distance may occur so many times."""
+    return is_integer(distance) and distance >= 1 and is_integer(times) and 1 <= times <= GREATEST
+
+
+def is_operation(value):
+    """Whether a value is a tuple of the name of a call and of as many items as it has arguments."""
+    if not isinstance(value, tuple) or len(value) == 0:
+        return False
+    word = value[0]
+    return isinstance(word, str) and word in OPERATIONS and len(value) == OPERATIONS[word]
+
+
 def check_list(scans):
     if not is_list(scans):
         raise InvalidList("not a list of scans in which no address occurs twice")
@@ -89,6 +105,20 @@ def check_bodies(bodies):
         raise InvalidScans("not a list of so many scans")
     if not all([is_scan(scan) for scan in bodies]):
         raise InvalidScans("not a list of tuples of two integers from 0 on")
+
+
+def check_points(points):
+    """Checks distances and how often they occur."""
+    if not isinstance(points, dict) or len(points) > MOST_POINTS:
+        raise InvalidPoints("not a dict of so many items")
+    if not all([is_point(distance, times) for distance, times in points.items()]):
+        raise InvalidPoints("not a dict from integers from 1 on to numbers of times")
+
+
+def check_operations(operations):
+    """Checks the calls of a preview, but not their arguments."""
+    if not all([is_operation(operation) for operation in operations]):
+        raise InvalidOperation("not a tuple of the name of a call and its arguments")
 
 
 def check_from(number, least):

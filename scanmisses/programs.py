@@ -1,9 +1,11 @@
 """Programs: sequences of scans and repeats, as texts and as values to reckon with."""
 
 from scanmisses.checks import GREATEST, check_between, check_integer
-from scanmisses.errors import InvalidNumber, InvalidProgram
+from scanmisses.errors import InvalidNumber, InvalidProgram, InvalidPrograms
 from scanmisses.parts import backwards, changed, count_accesses, repeated, scans_of
 from scanmisses.texts import read_text, words_of
+
+MOST_PROGRAMS = 3
 
 
 class Program:
@@ -67,6 +69,14 @@ def check_program(program):
     """Checks that a value is a program."""
     if not isinstance(program, Program):
         raise InvalidProgram("not a Program")
+
+
+def check_programs(programs):
+    """Checks the programs that share a cache."""
+    if not isinstance(programs, list) or not 1 <= len(programs) <= MOST_PROGRAMS:
+        raise InvalidPrograms("not a list of so many programs")
+    if not all([isinstance(program, Program) for program in programs]):
+        raise InvalidPrograms("not a list of Programs")
 
 
 def program_of(parts):

@@ -25,31 +25,45 @@ def scan_head(scan, many):
     return (scan[0], address_in(scan, min(many, scan_length(scan)) - 1))
 
 
-def scan_without(scan, low, high):
-    """The scans, at most two, of the addresses of a scan that are not from low to high."""
-    first, last = scan
-    least, greatest = min(first, last), max(first, last)
-    # Most scans are not touched, so they are told apart first.
-    if greatest < low or high < least:
-        return [scan]
-    ends = [(least, min(greatest, low - 1)), (max(least, high + 1), greatest)]
-    left = [(start, stop) for start, stop in ends if start <= stop]
-    if first <= last:
+def first_reaching(spans, address):
+    """The index of the first one of ascending intervals that ends at an address or beyond it."""
+    low, high = 0, len(spans)
+    while low < high:
+        middle = (low + high) // 2
+        if spans[middle][1] < address:
+            low = middle + 1
+        else:
+            high = middle
+    return low
+
+
+def scan_outside(scan, spans):
+    """The scans of the addresses of a scan that are in none of ascending intervals (least, greatest)."""
+    least, greatest = min(scan), max(scan)
+    left = []
+    start = least
+    at = first_reaching(spans, least)
+    while at < len(spans) and spans[at][0] <= greatest:
+        if start < spans[at][0]:
+            left.append((start, spans[at][0] - 1))
+        start = spans[at][1] + 1
+        at += 1
+    if start <= greatest:
+        left.append((start, greatest))
+    if scan[0] <= scan[1]:
         return left
-    return [(stop, start) for start, stop in reversed(left)]
+    return [(high, low) for low, high in reversed(left)]
 
 
 def all_without(scans, low, high):
     """The scans of the addresses of scans that are not from low to high."""
-    return [part for scan in scans for part in scan_without(scan, low, high)]
+    return others_of(scans, [(low, high)])
 
 
 def others_of(scans, taken):
     """The scans of the addresses of scans that are not among the taken ones."""
-    left = scans
-    for first, last in taken:
-        left = all_without(left, min(first, last), max(first, last))
-    return left
+    spans = sorted([(min(scan), max(scan)) for scan in taken])
+    return [part for scan in scans for part in scan_outside(scan, spans)]
 
 
 def first_of(scans, many):

@@ -24,12 +24,18 @@ def start_of(row, low, high):
 def shared_intervals(lasts, firsts):
     """The intervals that scans have in common, (place in lasts, place in firsts, length, in one direction)."""
     found = []
-    behind = placed_scans(firsts)
-    for one in placed_scans(lasts):
-        for two in behind:
-            low, high = max(one[0], two[0]), min(one[1], two[1])
-            if low <= high:
-                found.append((start_of(one, low, high), start_of(two, low, high), high - low + 1, one[3] == two[3]))
+    left, right = sorted(placed_scans(lasts)), sorted(placed_scans(firsts))
+    at = by = 0
+    while at < len(left) and by < len(right):
+        one, two = left[at], right[by]
+        low, high = max(one[0], two[0]), min(one[1], two[1])
+        if low <= high:
+            found.append((start_of(one, low, high), start_of(two, low, high), high - low + 1, one[3] == two[3]))
+        # The one that ends first has nothing in common with what follows.
+        if one[1] <= two[1]:
+            at += 1
+        else:
+            by += 1
     return found
 
 

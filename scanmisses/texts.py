@@ -11,15 +11,20 @@ CHUNK_DIGITS = 64
 CHUNK = 10 ** 64
 
 
-def read_number(word):
-    """The number that a word is, or None if it is none from 0 to GREATEST."""
+def read_digits(word, most):
+    """The number that a word of at most so many digits is, or None if it is none from 0 on."""
     # The length is tested first: Python refuses to read very long numbers.
-    if len(word) > MOST_DIGITS or not word.isascii() or not word.isdigit():
+    if len(word) > most or not word.isascii() or not word.isdigit():
         return None
     if word.startswith("0") and word != "0":
         return None
-    number = int(word)
-    return number if number <= GREATEST else None
+    return int(word)
+
+
+def read_number(word):
+    """The number that a word is, or None if it is none from 0 to GREATEST."""
+    number = read_digits(word, MOST_DIGITS)
+    return None if number is None or number > GREATEST else number
 
 
 def read_scan(word):
